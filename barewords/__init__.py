@@ -1,0 +1,1 @@
+"""Barewords: what bare words are, by tables alone."""
