@@ -86,18 +86,23 @@ def are_same(kind, other):
     return True
 
 
-def put_in(kind, kinds):
-    """What filled returns, for a kind and kinds that are known to be right."""
+def folded(kind, letters, make):
+    """What make tells of a kind, handed it and what it told of those within; letters are told."""
     done = []
     for one in reversed(all_kinds(kind)):
         if one[0] == "letter":
-            done.append(kinds[one[1]])
+            done.append(letters[one[1]])
         else:
             at = len(done) - len(kinds_within(one))
             within = tuple(done[at:][::-1])
             del done[at:]
-            done.append(with_kinds(one, within))
+            done.append(make(one, within))
     return done[0]
+
+
+def put_in(kind, kinds):
+    """What filled returns, for a kind and kinds that are known to be right."""
+    return folded(kind, kinds, with_kinds)
 
 
 def is_kind(thing):

@@ -15,6 +15,7 @@ METHODS = {
     "split", "splitlines", "startswith", "strip", "update", "values", "add", "discard",
 }
 SPECIAL = {"__init__", "__eq__"}
+LIBRARY = {"itertools": {"combinations"}}
 UNUSED = {"register", "mro", "elements", "open", "input", "law", "version_info", "with_traceback", "add_note"}
 NOT_IN_STRINGS = {"type", "typing", "enum", "Enum", "Flag", "Generic", "Protocol", "ABC", "namedtuple", "NamedTuple"}
 STATEMENTS = (
@@ -57,7 +58,9 @@ class FilesTest(unittest.TestCase):
         asked = {}
         for name, tree in trees():
             for node in tree.body:
-                if isinstance(node, ast.ImportFrom):
+                if isinstance(node, ast.ImportFrom) and node.module in LIBRARY:
+                    self.assertTrue(all(alias.asname is None and alias.name in LIBRARY[node.module] for alias in node.names))
+                elif isinstance(node, ast.ImportFrom):
                     self.assertTrue(node.module.startswith("barewords."), name)
                     self.assertEqual(node.level, 0)
                     self.assertTrue(all(alias.asname is None and alias.name != "*" for alias in node.names))
@@ -71,8 +74,8 @@ class FilesTest(unittest.TestCase):
     def test_imported_names_are_defined_where_they_come_from_and_used(self):
         defined = {name[:-3]: tree for name, tree in trees()}
         for name, node in nodes(ast.ImportFrom):
-            there = set()
-            for one in defined[node.module.split(".")[1]].body:
+            there = set(LIBRARY.get(node.module, ()))
+            for one in [] if there else defined[node.module.split(".")[1]].body:
                 there |= {one.name} if isinstance(one, (ast.FunctionDef, ast.ClassDef)) else {
                     target.id for target in getattr(one, "targets", [])}
             used = {one.id for one in ast.walk(defined[name[:-3]]) if isinstance(one, ast.Name)}
@@ -167,7 +170,7 @@ class ExpressionsTest(unittest.TestCase):
             self.assertEqual(local & set(dir(__builtins__) if not isinstance(__builtins__, dict) else __builtins__), set())
             for node in ast.walk(tree):
                 if isinstance(node, ast.Call) and isinstance(node.func, ast.Name):
-                    self.assertIn(node.func.id, own | BUILTINS | local, name)
+                    self.assertIn(node.func.id, own | BUILTINS | local | LIBRARY["itertools"], name)
                 elif isinstance(node, ast.Call) and isinstance(node.func, ast.Attribute):
                     self.assertIn(node.func.attr, own | METHODS | SPECIAL, name)
                 elif isinstance(node, ast.Call):
@@ -182,8 +185,9 @@ class ExpressionsTest(unittest.TestCase):
                     "list", "tuple", "dict", "sorted", "sum", "any", "all", "enumerate", "zip", "min", "max"):
                 at_once |= {ast.dump(one) for one in node.args}
         for name, node in nodes(ast.Call):
-            if isinstance(node.func, ast.Name) and node.func.id in ("zip", "enumerate", "reversed", "range"):
-                self.assertIn(ast.dump(node), at_once, name)
+            if isinstance(node.func, ast.Name) and node.func.id in (
+                    "zip", "enumerate", "reversed", "range", "combinations"):
+                self.assertTrue(ast.dump(node) in at_once, (name, node.lineno))
 
     def test_is_asks_for_none_alone(self):
         for name, node in nodes(ast.Compare):
