@@ -45,17 +45,31 @@ def check_spot(program, state, spot):
         raise NoSpot()
 
 
+def tells(program, state, spot, there, lot):
+    """Whether a lot of the sources that are there tells a spot that is told by all of them."""
+    return spot in told_with(program, state, [there[number] for number in lot])
+
+
 def tellers(program, state, spot):
     """The ascending list of the least lots that tell a spot its head."""
     check_spot(program, state, spot)
     there = sources(program, state)
     if len(there) > MOST_SOURCES:
         raise TooMany(MOST_SOURCES)
-    numbers = list(range(len(there)))
+    # What cannot be left out is in each lot that tells; most often there is nothing to choose beside.
+    needed = []
+    others = []
+    for number in range(len(there)):
+        rest = [one for one in range(len(there)) if one != number]
+        if tells(program, state, spot, there, rest):
+            others.append(number)
+        else:
+            needed.append(number)
     least = []
-    for many in range(len(there) + 1):
-        for lot in combinations(numbers, many):
-            if not has_within(lot, least) and spot in told_with(program, state, [there[number] for number in lot]):
+    for many in range(len(others) + 1):
+        for more in combinations(others, many):
+            lot = tuple(sorted([*needed, *more]))
+            if not has_within(lot, least) and tells(program, state, spot, there, lot):
                 least.append(lot)
     return sorted(least)
 
@@ -69,7 +83,7 @@ def is_teller(program, state, spot, thing):
     """Whether a thing is a lot that tells a spot its head."""
     check_spot(program, state, spot)
     there = sources(program, state)
-    return is_lot(thing, len(there)) and spot in told_with(program, state, [there[number] for number in thing])
+    return is_lot(thing, len(there)) and tells(program, state, spot, there, thing)
 
 
 def losses(program, state, source):

@@ -77,6 +77,7 @@ class Web:
                     return False
                 pairs.extend(list(zip(self.within[low], self.within[high])))
             elif len(self.asking[low]) > len(self.asking[high]) and self.kinds[high] is None:
+                # The fewer words are moved, or long chains of unknown ones would take too long.
                 low, high = high, low
             self.hangs(low, high)
         return True

@@ -240,6 +240,8 @@ class CellsTest(KindingCase):
                 self.fails(self.sample, state, (((),), {place: (kind, ())}))
         self.fails(self.sample, state, (((),), {8: (row(NUM), ())}))
         self.fails(self.sample, state, (((),), {8: (box(NUM), ())}))
+        for kind in (NUM, NIL, A, ("letter", 1)):
+            self.fails(self.sample, state, (((),), {8: (kind, ())}))
         self.holds(self.sample, state, (((),), {5: (box(NUM), ()), 7: (PAIR, ())}))
 
     def test_functions(self):
@@ -256,8 +258,8 @@ class CellsTest(KindingCase):
         self.pair(102, fun([NUM], NUM), (NIL,), False)
 
     def test_a_body_beyond(self):
-        state = (self.state[0], ((5, (-1, 1)), (6, (3, 1)), (7, (9,)), (8, ())) + self.state[1], ())
-        for place in (5, 6, 7, 8):
+        state = (self.state[0], ((4, (-1,)), (5, (-1, 1)), (6, (3, 1)), (7, (9,)), (8, ())) + self.state[1], ())
+        for place in (4, 5, 6, 7, 8):
             for kinds in ((), (NUM,)):
                 for kind in (fun([NUM], NUM), fun([NUM], NIL)):
                     self.fails(self.sample, state, (((),), {place: (kind, kinds)}))

@@ -186,6 +186,28 @@ class HandMadeTest(TellingCase):
             (100, "num num"), (101, "row"), (102, "- box box")]), [], (100, 101, 102), (((), (PAIR,)), {
                 100: (PAIR, ()), 101: (box(PAIR), ()), 102: (NUMBERS, (PAIR,))}))
 
+    def test_letters_that_are_one_before_they_are_told(self):
+        # The row that was in the box is in the last frame alone, by a letter that is one with that of the frame below.
+        for opened in (0, 3):
+            taker = fun([A], NUM)
+            steps = (("box", 1),) + (("open", 4),) * opened + (("body", 2, (A,), (0, 1, 2)),)
+            sample = Program((), (
+                main((("body", 3, (), (0,)), ("call", 1, (0,))), ("back", 2)),
+                (1, (box(A), A, taker, NUM), NUM, (steps, ("back", 5 + opened))),
+                (1, (box(A), A, taker), NUM, ((("open", 0), ("put", 0, 1), ("call", 2, (3,))), ("back", 5))),
+                (0, (NUM,), NUMBERS, ((
+                    ("row", (0, 0)), ("row", (0, 0)), ("box", 1), ("take", 4, (), ()), ("take", 1, (PAIR,), (3, 2, 4))), (
+                        "back", 5))),
+                (0, (PAIR,), NUM, ((("part", 0, 0),), ("back", 1)))))
+            state = behind(sample, (5,), 8 + 2 + opened + 2)
+            self.assertEqual(state[0][2], (2, (2,), (102, 101, 103, 100, 0)))
+            frames = ["num fun", "box row fun num box" + " row" * opened, "box row fun row -"]
+            self.check(sample, state, heads_of(frames, [
+                (100, "num num"), (101, "num num"), (102, "row"), (104, "- box row fun"), (105, "row")]), [
+                    ("pile", 2, 4)], tuple(range(100, 106)), (((), (PAIR,), (PAIR,)), {
+                        100: (PAIR, ()), 101: (PAIR, ()), 102: (box(PAIR), ()), 103: (fun([PAIR], NUM), ()),
+                        104: (NUMBERS, (PAIR,)), 105: (box(PAIR), ())}))
+
     def test_boxes_that_hold_themselves_in_functions(self):
         sample = Program((), (
             main((("take", 1, (), ()), ("box", 1), ("take", 2, (), (2,)), ("put", 2, 3), ("call", 3, (0,))), ("back", 5)),
@@ -335,6 +357,17 @@ class TooManyTest(unittest.TestCase):
         self.assertEqual(heads["heap", 100, 0], "num")
         self.assertEqual(heads["heap", 2099, 0], "box")
         self.assertEqual(open_spots(sample, state), [])
+        self.too_many(sample, state)
+
+    def test_kinds_beyond_count_that_words_have(self):
+        inner = row(A, A, A, A)
+        sample = Program((), (
+            main((("body", 1, (NUM,), (0,)),), ("back", 1)),
+            (1, (A,), NUM, ((("row", (0, 0, 0, 0)), ("row", (0, 0, 0, 0)), ("body", 1, (inner,), (1,))), ("back", 3)))))
+        state = ran(sample, begun(sample, (5,)), upwards, 3001)
+        heads = told(sample, state)
+        self.assertEqual(len(met(sample, state)), 2000)
+        self.assertEqual([heads["heap", 100, 0], heads["heap", 101, 3], heads["heap", 2099, 2]], ["num", "num", "row"])
         self.too_many(sample, state)
 
 
