@@ -29,6 +29,15 @@ class Finding:
     def asks_of(self, source):
         return self.asked is None or source in self.asked
 
+    def head_at(self, spot):
+        """The head of the kind of a spot, or None if it is unknown."""
+        kind = self.web.kinds[self.web.top(self.spots[spot])]
+        return None if kind is None else kind[0]
+
+    def word_at(self, spot):
+        where, number, at = spot
+        return self.pile[number][2][at] if where == "pile" else self.heap[number][at]
+
     def ties(self, knots, others):
         """Tie knots, one by one; it is not right if they cannot be."""
         if len(knots) != len(others) or not all([self.web.tied(*pair) for pair in zip(knots, others)]):
@@ -158,9 +167,5 @@ def found(program, state, asked):
 
 def told_of(finding):
     """The dict from the spots that are told to their heads."""
-    told = {}
-    for spot, knot in finding.spots.items():
-        kind = finding.web.kinds[finding.web.top(knot)]
-        if kind is not None and kind[0] in TOLD_HEADS:
-            told[spot] = kind[0]
-    return told
+    heads = {spot: finding.head_at(spot) for spot in finding.spots}
+    return {spot: head for spot, head in heads.items() if head in TOLD_HEADS}

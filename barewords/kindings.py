@@ -38,8 +38,8 @@ def are_cells(program, heap, thing):
     return all([is_of_cell(program, heap[place], pair) for place, pair in thing.items()])
 
 
-def holds(program, state, letters, cells):
-    """Whether words fit closed kinds for letters and for cells."""
+def followed(program, state, letters, cells):
+    """What is found of a state if letters and cells have these closed kinds; None if words do not fit them."""
     finding = Finding(program, state, None)
     web = finding.web
     for kinds in letters:
@@ -50,14 +50,19 @@ def holds(program, state, letters, cells):
         form_fits(finding, place)
     finding.goes_on()
     # Where a cell was left out that a word asks for, it has been put in on the way.
-    return finding.is_right and len(finding.cells) == len(cells)
+    return finding if finding.is_right and len(finding.cells) == len(cells) else None
+
+
+def found_by(program, state, thing):
+    """What is found of a state by a kinding; None if a thing is none."""
+    if not is_tuple(thing, 2, 2):
+        return None
+    letters, cells = thing
+    if not are_letters(program, state[0], letters) or not are_cells(program, dict(state[1]), cells):
+        return None
+    return followed(program, state, letters, cells)
 
 
 def is_kinding(program, state, thing):
     """Whether a thing is a kinding of a state."""
-    if not is_tuple(thing, 2, 2):
-        return False
-    letters, cells = thing
-    if not are_letters(program, state[0], letters) or not are_cells(program, dict(state[1]), cells):
-        return False
-    return holds(program, state, letters, cells)
+    return found_by(program, state, thing) is not None

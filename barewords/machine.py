@@ -1,17 +1,35 @@
 """The machine: states of bare words, which tell no number from the place of a cell."""
 
-from barewords.errors import BadPlacer, IsOver, NoInputs, NoNumber, NoPlace
-from barewords.plain import MOST_DONE, picked
+from barewords.errors import BadPlacer, IsOver, NoInputs, NoPlace
+from barewords.plain import check_most, picked
 from barewords.programs import are_inputs
-from barewords.things import is_between, is_integer
+from barewords.things import is_integer
+
+
+def comes_between(places, place):
+    """Put a place into an ascending list of others."""
+    low = 0
+    high = len(places)
+    while low < high:
+        middle = (low + high) // 2
+        if places[middle] < place:
+            low = middle + 1
+        else:
+            high = middle
+    places.insert(low, place)
 
 
 class Machine:
     """A state that is led on where it stands: tuples of all cells for each step would take too long."""
 
     def __init__(self, program, state):
-        pile, heap, said = state
         self.program = program
+        self.done = 0
+        self.becomes(state)
+
+    def becomes(self, state):
+        """Have another state stand in the place of this one."""
+        pile, heap, said = state
         self.pile = list(pile)
         self.cells = dict(heap)
         # Those of the cells, kept ascending, as a placer is handed them again and again.
@@ -24,15 +42,7 @@ class Machine:
 
     def gets(self, place, cell):
         """Put a new cell at a place that is free."""
-        low = 0
-        high = len(self.places)
-        while low < high:
-            middle = (low + high) // 2
-            if self.places[middle] < place:
-                low = middle + 1
-            else:
-                high = middle
-        self.places.insert(low, place)
+        comes_between(self.places, place)
         self.cells[place] = cell
 
     def hands(self, body, words):
@@ -152,6 +162,7 @@ def do_end(machine, words, end):
 
 def do_next(machine, place):
     """Do the next step or end; a new cell comes to this place, which is free then."""
+    machine.done += 1
     words = machine.pile[-1][2]
     row = row_ahead(machine.program, machine.pile)
     if row[0] in STEP_CELLS:
@@ -193,18 +204,27 @@ def next_state(program, state, place):
     return state_of(machine)
 
 
+def told_place(placer, places, taken, number):
+    """The place that a placer tells; places are those that are taken, ascending, taken has them as keys."""
+    place = placer(tuple(places))
+    if not is_integer(place) or place in taken:
+        raise BadPlacer(number)
+    return place
+
+
+def comes_to_stop(machine, last):
+    """Lead a machine on until a cell is made next, or so many are done in all; whether a cell is made next."""
+    while machine.pile and machine.done < last:
+        if makes_cell(machine.program, machine.pile):
+            return True
+        do_next(machine, None)
+    return False
+
+
 def ran(program, state, placer, most):
     """The state behind so many steps and ends at most, new cells coming where the placer tells."""
-    if not is_between(most, 0, MOST_DONE):
-        raise NoNumber()
+    check_most(most)
     machine = Machine(program, state)
-    done = 0
-    while machine.pile and done < most:
-        place = None
-        if makes_cell(program, machine.pile):
-            place = placer(tuple(machine.places))
-            if not machine.is_free(place):
-                raise BadPlacer(done)
-        do_next(machine, place)
-        done += 1
+    while comes_to_stop(machine, most):
+        do_next(machine, told_place(placer, machine.places, machine.cells, machine.done))
     return state_of(machine)

@@ -148,12 +148,17 @@ def do_next(run):
         do_end(run, frame, end)
 
 
+def check_most(most):
+    """Raise NoNumber unless this is how many steps and ends may be done at most."""
+    if not is_between(most, 0, MOST_DONE):
+        raise NoNumber()
+
+
 def plain(program, inputs, most):
     """The numbers said by so many steps and ends at most, and whether the run is over then."""
     if not are_inputs(program, inputs):
         raise NoInputs()
-    if not is_between(most, 0, MOST_DONE):
-        raise NoNumber()
+    check_most(most)
     run = Run(program.bodies, inputs)
     done = 0
     while run.frames and done < most:

@@ -5,7 +5,7 @@ from itertools import combinations
 from barewords.errors import NoLot, NoSource, NoSpot, TooMany
 from barewords.finding import found, told_of
 from barewords.telling import met, told
-from barewords.things import are_integers, is_integer, is_tuple
+from barewords.things import are_integers, has_spot_form, is_integer, is_tuple
 
 MOST_SOURCES = 10
 
@@ -39,9 +39,7 @@ def told_by(program, state, lot):
 def check_spot(program, state, spot):
     """Raise NoSpot unless this is a told spot."""
     # A flag in a tuple would be found as the number that it is like.
-    if not is_tuple(spot, 3, 3) or not isinstance(spot[0], str) or not are_integers(spot[1:]):
-        raise NoSpot()
-    if spot not in told(program, state):
+    if not has_spot_form(spot) or spot not in told(program, state):
         raise NoSpot()
 
 

@@ -28,3 +28,8 @@ def are_integers(thing):
 def are_naturals(thing):
     """Whether a thing is a tuple of integers from 0 on."""
     return isinstance(thing, tuple) and all([is_natural(item) for item in thing])
+
+
+def has_spot_form(thing):
+    """Whether a thing is written like a spot of some state."""
+    return is_tuple(thing, 3, 3) and isinstance(thing[0], str) and are_integers(thing[1:])

@@ -81,3 +81,23 @@ class Web:
                 low, high = high, low
             self.hangs(low, high)
         return True
+
+    def has_loop(self):
+        """Whether a kind would hold itself."""
+        tops = [knot for knot, above in enumerate(self.above) if knot == above]
+        around = {top: [] for top in tops}
+        for top in tops:
+            for inner in self.within[top]:
+                around[self.top(inner)].append(top)
+        # What holds nothing ends; and what holds nothing but what ends.
+        left = {top: len(self.within[top]) for top in tops}
+        ended = [top for top in tops if left[top] == 0]
+        many = 0
+        while ended:
+            many += 1
+            top = ended.pop()
+            for outer in around[top]:
+                left[outer] -= 1
+                if left[outer] == 0:
+                    ended.append(outer)
+        return many < len(tops)

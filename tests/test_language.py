@@ -12,7 +12,7 @@ BUILTINS = {
 METHODS = {
     "append", "clear", "copy", "count", "endswith", "extend", "find", "get", "index", "insert", "isalnum", "isalpha",
     "isdigit", "items", "join", "keys", "partition", "pop", "remove", "replace", "reverse", "rfind", "setdefault",
-    "split", "splitlines", "startswith", "strip", "update", "values", "add", "discard",
+    "split", "splitlines", "startswith", "strip", "update", "values", "add", "discard", "zfill", "isascii",
 }
 SPECIAL = {"__init__", "__eq__"}
 LIBRARY = {"itertools": {"combinations"}}

@@ -1,46 +1,17 @@
 """States of programs made by chance: what is told of them against what the document says in short."""
 
-import random
 import unittest
 
 from barewords.kindings import is_kinding
-from barewords.machine import begun, is_making, next_state, ran
+from barewords.machine import begun, ran
 from barewords.plain import plain
-from barewords.programs import Program
 from barewords.sources import sources, told_by, tellers
 from barewords.telling import blank, general, met, open_spots, told
-from holders import made_holders
-from made import made_program
-from naive import naive_part
 from naive_telling import (
-    Guess, Wrong, naive_blank, naive_general, naive_is_kinding, naive_next, naive_sources, naive_tellers, naive_told_by)
+    Guess, Wrong, naive_blank, naive_general, naive_is_kinding, naive_sources, naive_tellers, naive_told_by)
+from runs import samples, states
 from samples import NIL, NUM, box, row
 from states import PLACERS, upwards
-
-
-def samples(first, many):
-    """Programs with inputs and chances."""
-    for seed in range(first, first + many):
-        chance = random.Random(seed)
-        book, bodies = (made_holders if seed % 5 else made_program)(chance)
-        if naive_part(book, bodies) is None:
-            inputs = tuple(chance.randint(-2, 3) for _ in bodies[0][1])
-            yield Program(book, bodies), inputs, chance
-
-
-def states(sample, inputs, chance, most=60, share=0.3):
-    """Some states of a run, with cells at drawn places; the step to each one is looked at."""
-    places = iter(chance.sample(range(-99, 400), 400))
-    state = begun(sample, inputs)
-    for _ in range(most):
-        if not state[0] or len(state[0]) > 10:
-            break
-        place = next(places)
-        one = naive_next(sample, state, place)
-        assert next_state(sample, state, place if is_making(sample, state) else "none") == one
-        state = one
-        if chance.random() < share * (1 if len(state[0]) > 1 else 0.3):
-            yield state
 
 
 class MachineTest(unittest.TestCase):
