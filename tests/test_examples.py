@@ -7,6 +7,7 @@ from barewords.machine import begun, next_state
 from barewords.plain import plain
 from barewords.programs import Program, kinds_at, points
 from barewords.telling import blank, general, met, open_spots, told
+from barewords.texts import kind_text
 
 hold = Program((), ((0, (("num",),), ("num",), ((("take", 1, (("num",),), (0, 0)), ("call", 1, (0,))), ("back", 2))), (1, (("letter", 0), ("num",), ("num",)), ("num",), ((("box", 0), ("sum", 1, 2)), ("back", 4)))))
 
@@ -44,6 +45,9 @@ class ExamplesTest(unittest.TestCase):
         self.assertEqual(blank(hold, s), (((), (("nil",),)), {7: (("fun", (("num",),), ("num",)), (("nil",),))}))
         self.assertEqual(general(hold, s), (
             ((), (("letter", 0),)), {7: (("fun", (("num",),), ("num",)), (("letter", 1),))}))
+
+    def test_e07(self):
+        self.assertEqual(kind_text(("data", 0, (("letter", 0),))), '#0(?0)')
 
 
 if __name__ == "__main__":
