@@ -107,7 +107,7 @@ class Comparing:
     def are_links(self, word, other, head):
         """Whether a word and another one may be the places of a cell, here and there."""
         if word in self.new or other in self.old:
-            return self.new.get(word) == other and self.old.get(other) == word
+            return self.new.get(word) == other
         self.new[word] = other
         self.old[other] = word
         self.waiting.extend(self.spots[word])

@@ -63,7 +63,8 @@ class Keeper:
         """Another keeper, that goes on apart."""
         other = unbegun(self.program, self.each)
         other.stands_at(self.state(), list(self.records))
-        other.machine.done = self.machine.done
+        machine = other.machine
+        machine.done = self.machine.done
         other.makings = self.makings
         other.is_collected = self.is_collected
         return other

@@ -190,7 +190,8 @@ class OpenBlock:
             self.due = row[2] if row[0] == "look" else 2
 
     def is_done(self):
-        return self.end is not None and len(self.within) == self.due
+        """Whether all blocks within are read, the end having been taken."""
+        return len(self.within) == self.due
 
     def whole(self):
         within = tuple(self.within)

@@ -1,9 +1,8 @@
 """Texts: kinds and programs written as strings."""
 
-from barewords.errors import NoKind
 from barewords.figures import all_written
 from barewords.forms import blocks_within
-from barewords.kinds import folded, is_kind, letters_in
+from barewords.kinds import folded, letters_in
 
 
 def with_texts(kind, within):
@@ -24,9 +23,8 @@ def with_texts(kind, within):
 
 def kind_text(kind):
     """A kind written without blanks."""
-    if not is_kind(kind):
-        raise NoKind()
-    return folded(kind, {number: "?" + str(number) for number in letters_in(kind)}, with_texts)
+    letters = {number: "?" + str(number) for number in letters_in(kind)}
+    return folded(kind, letters, with_texts)
 
 
 def texts_of(kinds):

@@ -189,6 +189,42 @@ class ExpressionsTest(unittest.TestCase):
                     "zip", "enumerate", "reversed", "range", "combinations"):
                 self.assertTrue(ast.dump(node) in at_once, (name, node.lineno))
 
+    def test_attributes(self):
+        barred = {"items", "keys", "values", "pop", "update", "append", "clear", "extend", "insert", "remove", "reverse",
+                  "setdefault", "sort", "args", "encode", "decode", "hex", "fromhex", "format"}
+        assigned, methods = {}, {}
+        for name, node in nodes(ast.ClassDef):
+            methods[node.name] = {one.name for one in node.body if isinstance(one, ast.FunctionDef)}
+            assigned[node.name] = {
+                one.attr for one in ast.walk(node) if isinstance(one, ast.Attribute) and isinstance(one.ctx, ast.Store)
+                and isinstance(one.value, ast.Name) and one.value.id == "self"}
+            self.assertEqual(assigned[node.name] & (methods[node.name] | barred), set(), node.name)
+        known = set().union(*assigned.values())
+        own = set().union(*methods.values())
+        for name, node in nodes(ast.Attribute):
+            if isinstance(node.ctx, ast.Store):
+                self.assertIsInstance(node.value, ast.Name, (name, node.lineno))
+                self.assertIn(node.attr, known)
+            else:
+                self.assertIn(node.attr, known | own | METHODS, (name, node.lineno))
+
+    def test_what_is_kept_by_a_method_is_there_when_the_object_is_made(self):
+        for name, node in nodes(ast.ClassDef):
+            methods = {one.name: one for one in node.body if isinstance(one, ast.FunctionDef)}
+            if "__init__" not in methods:
+                continue
+            called = ["__init__"]
+            for one in called:
+                called.extend(sub.func.attr for sub in ast.walk(methods[one]) if isinstance(sub, ast.Call) and isinstance(
+                    sub.func, ast.Attribute) and isinstance(sub.func.value, ast.Name) and sub.func.value.id == "self"
+                    and sub.func.attr in methods and sub.func.attr not in called)
+
+            def kept(those):
+                return {one.attr for method in those for one in ast.walk(methods[method]) if isinstance(
+                    one, ast.Attribute) and isinstance(one.ctx, ast.Store) and isinstance(one.value, ast.Name)
+                    and one.value.id == "self"}
+            self.assertEqual(kept(methods) - kept(called), set(), node.name)
+
     def test_is_asks_for_none_alone(self):
         for name, node in nodes(ast.Compare):
             for sign, other in zip(node.ops, node.comparators):

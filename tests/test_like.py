@@ -146,6 +146,9 @@ class OneThingChangedTest(LikeCase):
             self.changed(pile=pile)
         for said in ([3], (True,), (None,), 3, "3", ((3,),)):
             self.changed(said=said)
+        one = (STATE[0], STATE[1], (1, 0))
+        self.check(hold(), one, (STATE[0], STATE[1], (True, 0)), False)
+        self.check(hold(), one, (STATE[0], STATE[1], (1, False)), False)
         flag = behind(program((), ("back", 0)), (1,), 0)
         self.check(program((), ("back", 0)), flag, (((0, (0,), (True,)),), (), ()), False)
 

@@ -83,7 +83,8 @@ class KindingsTest(unittest.TestCase):
             guess = Guess(sample, state, None, chosen)
         except Wrong:
             return None
-        return guess.kinding(lambda letter: chance.choice([NUM, NIL]))
+        names = {}
+        return guess.kinding(lambda letter: names.setdefault(letter, chance.choice([NUM, NIL])))
 
     def test_told_spots_have_their_heads_in_every_kinding(self):
         unlike = 0
