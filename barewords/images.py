@@ -32,9 +32,14 @@ def image(state):
     return text + end_line(text)
 
 
-def joined_in(word, sign):
-    """The tuple of the integers that were joined in a word, or None."""
-    return () if word == NONE else integers_in(word.split(sign), MOST_FIGURES)
+def point_in(word):
+    """The point that a word is, or None; a point always has an integer, so it is never written as none."""
+    return integers_in(word.split("."), MOST_FIGURES)
+
+
+def words_in(word):
+    """The tuple of the words of a frame or a cell, or None."""
+    return () if word == NONE else integers_in(word.split(","), MOST_FIGURES)
 
 
 class Reading:
@@ -56,12 +61,12 @@ class Reading:
         return word == "cell" and len(rest) == 2 and self.takes_cell(rest)
 
     def takes_frame(self, rest):
-        frame = (integer_in(rest[0], MOST_FIGURES), joined_in(rest[1], "."), joined_in(rest[2], ","))
+        frame = (integer_in(rest[0], MOST_FIGURES), point_in(rest[1]), words_in(rest[2]))
         self.pile.append(frame)
         return None not in frame
 
     def takes_cell(self, rest):
-        pair = (integer_in(rest[0], MOST_FIGURES), joined_in(rest[1], ","))
+        pair = (integer_in(rest[0], MOST_FIGURES), words_in(rest[1]))
         if None in pair or self.heap and self.heap[-1][0] >= pair[0]:
             return False
         self.heap.append(pair)

@@ -117,7 +117,7 @@ def naive_image(state):
     pile, heap, said = state
     text = "said" + "".join(f" {number}" for number in said) + "\n"
     for body, point, words in pile:
-        text += f"frame {body} {'.'.join(map(str, point)) or '-'} {','.join(map(str, words)) or '-'}\n"
+        text += f"frame {body} {'.'.join(map(str, point))} {','.join(map(str, words)) or '-'}\n"
     for place, words in heap:
         text += f"cell {place} {','.join(map(str, words)) or '-'}\n"
     return text + naive_end(text)
@@ -132,14 +132,14 @@ def naive_end(text):
 
 NUMBER = r"(?:0|-?[1-9][0-9]{0,3999})"
 SAID = re.compile(rf"said((?: {NUMBER})*)")
-FRAME = re.compile(rf"frame ({NUMBER}) (-|{NUMBER}(?:\.{NUMBER})*) (-|{NUMBER}(?:,{NUMBER})*)")
+FRAME = re.compile(rf"frame ({NUMBER}) ({NUMBER}(?:\.{NUMBER})*) (-|{NUMBER}(?:,{NUMBER})*)")
 CELL = re.compile(rf"cell ({NUMBER}) (-|{NUMBER}(?:,{NUMBER})*)")
 
 
 def naive_read(text):
     """The pair of a state and None, or of None and the line that BadImage names."""
-    def numbers(word, sign):
-        return () if word == "-" else tuple(map(int, word.split(sign)))
+    def words(word):
+        return () if word == "-" else tuple(map(int, word.split(",")))
     said, pile, heap, ahead = None, (), (), ""
     lines = text.split("\n")[:-1]
     for at, line in enumerate(lines, 1):
@@ -149,9 +149,9 @@ def naive_read(text):
                 return None, 1
             said = tuple(map(int, line.split(" ")[1:]))
         elif frame and not heap:
-            pile += ((int(frame[1]), numbers(frame[2], "."), numbers(frame[3], ",")),)
+            pile += ((int(frame[1]), tuple(map(int, frame[2].split("."))), words(frame[3])),)
         elif cell and (not heap or heap[-1][0] < int(cell[1])):
-            heap += ((int(cell[1]), numbers(cell[2], ",")),)
+            heap += ((int(cell[1]), words(cell[2])),)
         elif line + "\n" == naive_end(ahead):
             return ((pile, heap, said), None) if ahead + line + "\n" == text else (None, at + 1)
         else:

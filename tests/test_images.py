@@ -43,10 +43,10 @@ class WrittenTest(unittest.TestCase):
         self.assertEqual(image((((0, (0,), (5,)),), (), (1, 2, 3))), f"{text}end {check % 9973}\n")
 
     def test_any_triple_of_the_form(self):
-        state = (((-3, (), ()), (7, (-1, -2, 10 ** 39), (-5,))), ((-10 ** 40 + 1, ()), (0, (0, -1))), (0, -10 ** 39))
+        state = (((-3, (-4,), ()), (7, (-1, -2, 10 ** 39), (-5,))), ((-10 ** 40 + 1, ()), (0, (0, -1))), (0, -10 ** 39))
         self.assertEqual(image(state), naive_image(state))
         self.assertEqual(image(state).split("\n")[1:5], [
-            "frame -3 - -", f"frame 7 -1.-2.{10 ** 39} -5", f"cell {1 - 10 ** 40} -", "cell 0 0,-1"])
+            "frame -3 -4 -", f"frame 7 -1.-2.{10 ** 39} -5", f"cell {1 - 10 ** 40} -", "cell 0 0,-1"])
 
     def test_numbers_of_any_length(self):
         for figures in (63, 64, 65, 127, 128, 129, 4000, 4001, 4300, 4301, 9000):
@@ -118,6 +118,24 @@ class LinesTest(unittest.TestCase):
                        "frame - 1 5,7", "frame 0 1. 5,7", "frame 0 .1 5,7", "frame 0 1..0 5,7", "frame 0 1,0 5,7",
                        "frame 0 01 5,7", "frame 00 1 5,7", "frame 0 -0 5,7", "frame 0 1 --", "frame 0 1 -,5", "end 7",
                        "frame 0 1 5,7 5,7", "frame 0 -- 5,7", "frames 0 1 5,7", "end", "frame 0 0x1 5,7", "frame 0 1.- 5,7")
+
+    def test_a_point_always_has_an_integer(self):
+        self.lines(1, "frame 0 - 5,7", "frame 0 - -", "frame -1 - 5,7", "frame 7 - -", "frame 0 -.1 5,7", "frame 0 .- 5,7")
+        self.lines(2, "frame 1 - 5,5,5", "frame 1 - -", "frame 0 - 5", "frame 1 0.- 5,5,5", "frame 1 -. 5,5,5")
+
+    def test_a_line_without_a_point_is_named_ahead_of_what_is_behind_it(self):
+        for end in ("end", "end 1\n", "", "\n", "cell 7 -\n", "cell x\n", "frame 1 - 5\n", "said\n", "frame 0 0 5\nend 0\nend"):
+            for ahead, line in (("", 2), ("frame 0 0 5\n", 3), ("frame 0 1 5,7\nframe 0 0 -\n", 4)):
+                text = f"said\n{ahead}frame 0 - 5\n{end}"
+                for one in (text, closed(text)):
+                    self.assertEqual(bad_line(one), line, one)
+                    self.assertEqual(naive_read(one)[1], line, one)
+
+    def test_no_words(self):
+        one = program((), ("if", 0, ((), ("back", 0)), ((), ("back", 0))))
+        none = program((("num", 1),), ("back", 0), places=())
+        self.assertEqual(read_image(none, closed("said\nframe 0 0 -\n")), (((0, (0,), ()),), (), ()))
+        self.assertEqual(read_image(one, closed("said\nframe 0 0.1.0 5\ncell 7 -\n")), (((0, (0, 1, 0), (5,)),), ((7, ()),), ()))
 
     def test_cell(self):
         self.lines(3, "", "said", "said 3 -4", "Cell 7 1,5,5", "cell 7 1,5,5 ", "cell  7 1,5,5", "cell 7  1,5,5", "cell 7",
@@ -210,10 +228,10 @@ class LinesTest(unittest.TestCase):
 class NoOverTest(unittest.TestCase):
     def test_states_that_are_not_taken_over(self):
         for text in ("said\nframe 0 0 -\n", "said\nframe 1 0 5,5,5\n", "said\nframe -1 0 5\n", "said\nframe 2 0 5\n",
-                     "said\nframe 0 -1 5\n", "said\nframe 0 - 5\n", "said\nframe 0 0.0 5\n", "said\nframe 0 1 5,7\n",
+                     "said\nframe 0 -1 5\n", "said\nframe 0 0.-1 5\n", "said\nframe 0 0.0 5\n", "said\nframe 0 1 5,7\n",
                      "said\nframe 0 1 5,7\ncell 7 -\n", "said\nframe 0 1 5,7\ncell 7 1,5\n", "said\nframe 0 0 5,5\n",
                      "said\nframe 0 1 5,7\nframe 0 0 5\ncell 7 2,5,5\n",
-                     f"said\nframe {'9' * 4000} 0 5\n", f"said\nframe 0 {'9' * 4000} 5\n", "said\nframe 7 - -\n"):
+                     f"said\nframe {'9' * 4000} 0 5\n", f"said\nframe 0 {'9' * 4000} 5\n", "said\nframe 7 -1 -\n"):
             self.assertEqual(naive_read(closed(text))[1], None, text)
             with self.assertRaises(NoOver):
                 read_image(hold(), closed(text))
@@ -237,6 +255,13 @@ class LoadedTest(unittest.TestCase):
                 state = behind(one, (5,), steps)
                 for placer in PLACERS:
                     self.assertEqual(loaded(one, image(state), placer), collected(one, state, placer))
+
+    def test_what_read_image_does_not_take(self):
+        for text, line in (("said\nframe 0 - 5\n", 2), ("said\nframe 0 1 5,7\nframe 1 - 5,5,5\ncell 7 1,5,5\n", 3)):
+            for one in (text, text + "end", closed(text)):
+                with self.assertRaises(BadImage) as caught:
+                    loaded(hold(), one, upwards)
+                self.assertEqual(caught.exception.line, line)
 
     def test_where_the_placer_is_asked(self):
         seen = []

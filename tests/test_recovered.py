@@ -138,6 +138,17 @@ class ChangedTest(RecoveredCase):
         self.check(nested(), led(one, (5,), 1).journal())
         self.check(counting(), led(one, (5,), 1).journal())
 
+    def test_points_without_integers(self):
+        one = hold()
+        right = image(behind(one, (5,), 2))
+        for text in ("said\nframe 0 - 5\n", right[:right.rfind("end ")].replace("frame 1 0", "frame 1 -")):
+            wrong = text + naive_end(text)
+            self.assertIn(" - ", wrong)
+            self.check(one, wrong, [])
+            self.check(one, wrong + right, [])
+            self.check(one, right + wrong + right, [right])
+            self.check(one, right * 2 + wrong, [right] * 2)
+
     def test_other_programs(self):
         journal = led(hold(), (5,), 1).journal()
         other = Program((), (hold().bodies[0], (1, hold().bodies[1][1], ("num",), ((("num", 3),), ("back", 3)))))
